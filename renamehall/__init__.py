@@ -1,0 +1,1 @@
+"""Renamehall: many names changed at once in a tree of drawers."""

@@ -1,0 +1,32 @@
+"""Names and paths [4]."""
+
+NAME_SIGNS = "abcdefghijklmnopqrstuvwxyzABCDEFGHIJKLMNOPQRSTUVWXYZ0123456789-_."
+MOST_SIGNS = 12
+MOST_NAMES = 6
+
+
+def is_name(text):
+    """Tell whether a text is a name."""
+    if len(text) < 1 or len(text) > MOST_SIGNS:
+        return False
+    return all([sign in NAME_SIGNS for sign in text])
+
+
+def alike(one, other):
+    """Tell whether two names are the same but for great and small letters."""
+    return one.lower() == other.lower()
+
+
+def show_path(path):
+    """Write a path."""
+    return "/".join(path)
+
+
+def read_path(text):
+    """Read a path; None where the text writes none."""
+    names = text.split("/")
+    if len(names) > MOST_NAMES:
+        return None
+    if not all([is_name(name) for name in names]):
+        return None
+    return tuple(names)
