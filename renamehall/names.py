@@ -1,5 +1,7 @@
 """Names and paths [4]."""
 
+FIGURES = "0123456789"
+LETTERS = "abcdefghijklmnopqrstuvwxyzABCDEFGHIJKLMNOPQRSTUVWXYZ"
 NAME_SIGNS = "abcdefghijklmnopqrstuvwxyzABCDEFGHIJKLMNOPQRSTUVWXYZ0123456789-_."
 MOST_SIGNS = 12
 MOST_NAMES = 6
