@@ -4,19 +4,10 @@ import itertools
 import random
 import unittest
 
+from models import SOME
 from renamehall.errors import HallError, Meets, NoWish
 from renamehall.halls import Hall
 from renamehall.wishes import ask_wishes, goal, meetings
-
-SOME = [
-    (("box",), None),
-    (("desk",), None),
-    (("desk", "a"), 1),
-    (("desk", "b"), 2),
-    (("desk", "tax"), None),
-    (("desk", "tax", "y24"), 24),
-    (("note",), 7),
-]
 
 
 class Held(unittest.TestCase):
