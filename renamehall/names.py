@@ -7,11 +7,14 @@ MOST_SIGNS = 12
 MOST_NAMES = 6
 
 
+def all_of(text, signs):
+    """Tell whether a text has a sign, and only such signs."""
+    return text != "" and all([sign in signs for sign in text])
+
+
 def is_name(text):
     """Tell whether a text is a name."""
-    if len(text) < 1 or len(text) > MOST_SIGNS:
-        return False
-    return all([sign in NAME_SIGNS for sign in text])
+    return len(text) <= MOST_SIGNS and all_of(text, NAME_SIGNS)
 
 
 def alike(one, other):

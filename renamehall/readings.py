@@ -1,12 +1,7 @@
 """The plain reading of a name by a pattern [8]."""
 
-from renamehall.names import FIGURES, LETTERS
+from renamehall.names import FIGURES, LETTERS, all_of
 from renamehall.patterns import parts_of
-
-
-def all_of(text, signs):
-    """Tell whether a text has a sign, and only such signs."""
-    return text != "" and all([sign in signs for sign in text])
 
 
 def gap_takes(gap_sign, text):
